@@ -1,0 +1,1 @@
+"""Anystore: rooms that come right from whatever their store holds."""
