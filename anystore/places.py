@@ -81,3 +81,23 @@ def add_call(found, step, behind):
     found.append(("ask", box, room, expression, ask + 1, ask + 2))
     found.append(("clear", room, behind))
     found.append(("again", room, ask))
+
+
+def for_spans(room):
+    """For each for of a room, as they are numbered: (MOST, its check, the first place behind its body)."""
+    found = []
+    add_spans(found, room.body, 1)
+    return found
+
+
+def add_spans(found, body, begin):
+    """Put the spans of a body's fors behind those found; begin is the body's first place."""
+    at = begin
+    for step in body:
+        if step[0] == "for":
+            found.append((step[2], at + 1, at + step_size(step)))
+            add_spans(found, step[3], at + 2)
+        if step[0] == "if":
+            add_spans(found, step[2], at + 1)
+            add_spans(found, step[3], at + 1 + body_size(step[2]))
+        at += step_size(step)

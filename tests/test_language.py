@@ -7,7 +7,7 @@ import pathlib
 import re
 import unittest
 
-from anystore import places, programs, terms, writing
+from anystore import places, plain, programs, reading, stands, terms, writing
 
 FOLDER = pathlib.Path(__file__).resolve().parent.parent / "anystore"
 FILES = sorted(FOLDER.glob("*.py"))
@@ -121,6 +121,28 @@ class CodeTest(unittest.TestCase):
                     if node.func.id in ("any", "all", "sum", "min", "max", "sorted"):
                         self.assertFalse([part for part in node.args if isinstance(part, ast.GeneratorExp)], path.name)
 
+    def test_no_name_of_a_file_has_that_of_its_imports_or_classes(self):
+        for path in FILES:
+            tree = tree_of(path)
+            taken = [part.name for node in ast.walk(tree) if isinstance(node, ast.ImportFrom) for part in node.names]
+            taken += [node.name for node in ast.walk(tree) if isinstance(node, ast.ClassDef)]
+            self.assertEqual(len(taken), len(set(taken)), path.name)
+            for node in ast.walk(tree):
+                if isinstance(node, ast.arg):
+                    self.assertNotIn(node.arg, taken, path.name)
+                if isinstance(node, ast.Name) and isinstance(node.ctx, ast.Store):
+                    self.assertNotIn(node.id, taken, path.name)
+
+    def test_fields_that_are_read_are_set_by_a_class(self):
+        stored, called, read = set(), set(), set()
+        for path in FILES:
+            for node in ast.walk(tree_of(path)):
+                if isinstance(node, ast.Call) and isinstance(node.func, ast.Attribute):
+                    called.add(node.func.attr)
+                elif isinstance(node, ast.Attribute):
+                    (stored if isinstance(node.ctx, ast.Store) else read).add(node.attr)
+        self.assertEqual(read - called - stored, set())
+
     def test_imports_come_from_the_package_and_make_no_ring(self):
         needs = {}
         for path in FILES:
@@ -141,7 +163,8 @@ class InterfaceTest(unittest.TestCase):
     def test_defined_where_it_is_listed(self):
         listed = (
             (terms, ("worth", "holds")), (writing, ("expression_text", "test_text", "program_text")),
-            (programs, ("Room", "Program")), (places, ("places",)))
+            (programs, ("Room", "Program")), (places, ("places",)), (reading, ("read_program",)),
+            (stands, ("stand_of",)), (plain, ("Plain",)))
         for module, names in listed:
             for name in names:
                 self.assertEqual(getattr(module, name).__module__, module.__name__)
@@ -154,7 +177,10 @@ class InterfaceTest(unittest.TestCase):
             (writing.expression_text, "(expression)"), (writing.test_text, "(test)"),
             (writing.program_text, "(program)"), (places.places, "(program, name)"), (programs.Room, room),
             (programs.Program, "(rooms)"), (programs.Program.rooms, "(self)"),
-            (programs.Program.room_of, "(self, name)"), (programs.Program.beneath, "(self, name)"))
+            (programs.Program.room_of, "(self, name)"), (programs.Program.beneath, "(self, name)"),
+            (reading.read_program, "(text)"), (stands.stand_of, "(program, words)"),
+            (plain.Plain, "(program, *, stand=None)"), (plain.Plain.beat, "(self, given=None, *, room=True)"),
+            (plain.Plain.stand, "(self)"), (plain.Plain.now, "(self)"), (plain.Plain.refills, "(self)"))
         for thing, wanted in listed:
             self.assertEqual(str(inspect.signature(thing)), wanted)
 
@@ -163,3 +189,5 @@ class InterfaceTest(unittest.TestCase):
             self.assertIn(name, vars(programs.Program))
         for name in ("__eq__", "__len__", "__repr__"):
             self.assertIn(name, vars(programs.Room))
+        for name in ("beat", "stand", "now", "refills"):
+            self.assertIn(name, vars(plain.Plain))

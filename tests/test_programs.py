@@ -1,4 +1,4 @@
-"""Points 6 and 7: rooms and programs, as program_text and places are handed them."""
+"""Points 2, 6 and 7: rooms and programs."""
 
 import unittest
 
@@ -78,7 +78,12 @@ class ProgramTest(unittest.TestCase):
         self.assertEqual(program, pair((CALL,)))
         self.assertNotEqual(program, pair((SET,)))
         self.assertNotEqual(program, alone(()))
-        self.assertFalse(program == program.rooms())
+        self.assertFalse(program != pair((CALL,)))
+        for thing in (None, True, 2, "", str(program), program.rooms(), list(program.rooms()), {}, program.rooms()[0]):
+            self.assertFalse(program == thing)
+            self.assertTrue(program != thing)
+        self.assertFalse(Program((Room("a"),)) == Room("a"))
+        self.assertFalse(Room("a") == Program((Room("a"),)))
         self.assertEqual(len(program), 2)
         self.assertEqual(str(program), program_text(program))
         self.assertEqual(repr(program), "Program(2)")
@@ -267,6 +272,63 @@ class NoProgramTest(unittest.TestCase):
         wide = ("for", X, 2, (SET,) * 9)
         self.let(body=(wide,) * 3)
         self.sub_refused("body", (wide,) * 3 + (SET,))
+
+    def test_any_things_in_each_field(self):
+        """Told is the room and the word, whatever stands there, however deep."""
+        things = [
+            *STRANGE, None, False, 10 ** 29, -1, "x" * 20000, "x~ \n", Program((Room("a"),)), NoProgram(0, "name")]
+        things += [(thing,) for thing in things] + [[thing] for thing in things] + [(thing, thing) for thing in things]
+        right = {"above": ("",), "boxes": ((),), "sayings": ((),), "body": ((),), "promise": (None,), "name": ("x",),
+                 "ask": (None, 3), "told": (None,)}
+        for why in FIELDS:
+            for thing in things:
+                if thing in right[why] and not isinstance(thing, bool):
+                    continue
+                self.main_refused(why, thing)
+                self.sub_refused(why, thing)
+
+    def test_any_things_within_terms_steps_and_boxes(self):
+        for thing in (
+                None, True, False, -1, 41, 10 ** 29, "", "Z", "told", "not", (1,), ((),), [], [()], {}, {"x": 1},
+                Room("x"), ("number",), ("number", True), ("number", 1000), ("box", "z"), ["box", "x"],
+                ("is", ("box", "z"), ZERO)):
+            self.sub_refused("boxes", (thing,), ((thing, 7, 0),), (("x", thing, 0),), (("x", 7, thing),))
+            self.sub_refused("sayings", (thing,), ((thing, X, X),), (("is", X, thing),), (("not", thing),))
+            self.sub_refused("told", thing, (thing, X), (6, thing), (6, (thing, X, X)), (6, ("plus", X, thing)),
+                             (6, ("box", thing)))
+            self.sub_refused("promise", ("is", TOLD, thing), (thing, TOLD, TOLD), ("both", ("is", TOLD, TOLD), thing))
+            self.sub_refused(
+                "body", thing, (thing,), ((thing, "x", ONE),), (("set", "x", thing),), (("set", thing, ONE),),
+                (("if", thing, (), ()),), (("if", X_IS_ZERO, thing, ()),), (("if", X_IS_ZERO, (), thing),),
+                (("for", thing, 3, ()),), (("for", X, thing, ()),), (("for", X, 3, thing),), (("hear", thing),),
+                (("say", thing, X),), (SET, thing, SET), (("if", X_IS_ZERO, (SET, thing), ()),))
+            self.main_refused(
+                "body", (("call", thing, "sub", X),), (("call", "x", thing, X),), (("call", "x", "sub", thing),))
+
+    def test_two_faults_at_once(self):
+        words = list(FIELDS)
+        for at, why in enumerate(words):
+            for later in words[at:]:
+                fields = {why: ([],), later: ([],)}
+                self.refused((main_with(), sub_with(**fields)), 1, why)
+                self.refused((main_with(**fields), sub_with()), 0, why)
+                self.refused((main_with(**{later: ([],)}), sub_with(**{why: ([],)})), 0, later)
+        rooms = tuple(sub_with(name=name) for name in "abcdefg")
+        for at in range(7):
+            spoilt = [main_with(), *rooms]
+            for number in range(at, 7):
+                spoilt[number + 1] = sub_with(name="abcdefg"[number], ask=number % 2 * 41)
+            self.refused(tuple(spoilt), at + 1, "ask")
+
+    def test_rooms_behind_are_looked_at_later(self):
+        """A call of a room right beneath is right; what is wrong in that one is its own."""
+        call = main_with(body=(CALL,))
+        Program((call, sub_with()))
+        self.refused((call, sub_with(boxes=(), sayings=())), 1, "told")
+        self.refused((call, sub_with(ask=0)), 1, "ask")
+        self.refused((call, sub_with(name="other")), 0, "body")
+        self.refused((call, sub_with(above="")), 0, "body")
+        self.refused((call, sub_with(name="a"), sub_with(above="a")), 0, "body")
 
     def test_the_first_fault_is_told(self):
         fields = dict.fromkeys(FIELDS, ([],))
