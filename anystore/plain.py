@@ -1,97 +1,90 @@
 """The plain reading of a program, one deed at a time (points 10 and 11)."""
 
 from anystore.errors import NoStand
-from anystore.places import for_spans
-from anystore.stands import called, is_stand, number_asked, standings
+from anystore.places import put
+from anystore.stands import called, is_stand, number_asked
 
 
 class Plain:
     """A plain reading, from the beginning or from a stand."""
 
     def __init__(self, program, *, stand=None):
-        rows = first_stand(program) if stand is None else stand
-        if not is_stand(program, rows):
+        plans = program.plans()
+        if stand is not None and not is_stand(plans, stand):
             raise NoStand("no stand of the program")
-        self.standing = standings(program, rows)
+        self.drawn = plans
+        # All deeds leave rows such as a stand has them, so these are told as they are.
+        self.rows = tuple([plan.first_row() for plan in plans]) if stand is None else stand
+        self.took = tuple([0] * len(plans))
         self.done = 0
 
     def beat(self, given=None, *, room=True):
         """Do the next deed, and tell what is said."""
         self.done += 1
-        line = called(self.standing)
-        here = line[-1]
-        if len(line) > 1 and here.kind() in ("home", "told"):
-            hand_over(line[-2], here)
-            return ()
-        return do_step(here, given, room)
+        line = called(self.drawn, self.rows)
+        here = self.drawn[line[-1]]
+        row = self.rows[here.at]
+        step = here.steps[row[0]]
+        if step[0] not in ("home", "told"):
+            self.move(here, stepped(step, row, given, room))
+            return said_by(here, step, row, room)
+        if here.at > 0:
+            self.hand_over(self.drawn[line[-2]], here)
+        elif self.look(here):
+            self.move(here, (step[1], *row[1:]))
+        return ()
+
+    def hand_over(self, above, beneath):
+        """A deed of a call that is not the other room's own: that one is at home or at told."""
+        asking = self.rows[above.at]
+        other = self.rows[beneath.at]
+        step = above.steps[asking[0]]
+        if step[0] == "ask" and other[0] == 0:
+            self.move(beneath, (beneath.steps[0][1], other[1], other[2], number_asked(step, asking), 0))
+        elif step[0] == "ask":
+            self.move(above, taken(step, asking, other[4]))
+        elif other[0] > 0:
+            self.move(beneath, (0, other[1], other[2], 0, 0))
+        else:
+            self.move(above, (step[2], *asking[1:]))
+            self.look(beneath)
+
+    def look(self, here):
+        """Whether a room at home has its sayings; where it hasn't, it takes its firsts."""
+        if here.has_sayings(self.rows[here.at][2]):
+            return True
+        self.move(here, here.first_row())
+        self.took = put(self.took, here.at, self.took[here.at] + 1)
+        return False
+
+    def move(self, here, row):
+        self.rows = put(self.rows, here.at, row)
 
     def stand(self):
-        if any([one.lacks_saying() for one in self.standing]):
-            return None
-        return tuple([one.row() for one in self.standing])
+        for plan, row in zip(self.drawn, self.rows):
+            if row[0] == 0 and not plan.has_sayings(row[2]):
+                return None
+        return self.rows
 
     def now(self):
         return self.done
 
     def refills(self):
-        return tuple([one.took for one in self.standing])
+        return self.took
 
 
-def first_stand(program):
-    return tuple([
-        (0, tuple([0 for span in for_spans(room)]), tuple([box[2] for box in room.boxes]), 0, 0)
-        for room in program.rooms()])
-
-
-def hand_over(above, beneath):
-    """A deed of a call that is not the other room's own: that one is at home or at told."""
-    step = above.step()
-    if step[0] == "ask" and beneath.kind() == "home":
-        beneath.asked = number_asked(above, beneath)
-        beneath.place = beneath.step()[-1]
-    elif step[0] == "ask":
-        put(above, step[1], beneath.told)
-        above.place = step[4]
-    elif beneath.kind() == "told":
-        beneath.place = beneath.step()[-1]
-    else:
-        above.place = step[-1]
-        look(beneath)
-
-
-def look(here):
-    """Whether a room at home has its sayings; where it hasn't, it takes its firsts."""
-    if here.has_sayings():
-        return True
-    here.boxes = {box[0]: box[2] for box in here.room.boxes}
-    here.took += 1
-    return False
-
-
-def do_step(here, given, room):
-    """Do the step at which a room stands, and tell what is said; all but an ask and a clear."""
-    step = here.step()
-    kind = step[0]
-    if kind == "home" and not look(here):
-        return ()
-    # Most steps lead to one place, their last part; those below that lead to others say so.
-    here.place = step[-1]
-    if kind == "set":
-        put(here, step[1], here.worth_of(step[2]))
-    elif kind == "hear":
-        put(here, step[1], heard(bound_of(here, step[1]), given))
-    elif kind == "say":
-        return say(here, step, room)
-    elif kind == "if" and here.has(step[1]):
-        here.place = step[2]
-    elif kind == "for":
-        here.counts[step[1]] = here.worth_of(step[2]) % (step[3] + 1)
-    elif kind == "check" and here.counts[step[1]] > 0:
-        here.counts[step[1]] -= 1
-        here.place = step[2]
-    elif kind == "tell":
-        here.told = here.worth_of(step[2]) % step[1]
-    return ()
+def stepped(step, row, given, room):
+    """The row behind a deed that a room does by itself: set, hear, say, if, for, check, tell."""
+    place, counts, boxes, asked, told = row
+    kind, deed = step[:2]
+    if kind == "hear":
+        return (step[4], counts, put(boxes, step[2], heard(step[3], given)), asked, told)
+    if kind == "say":
+        return (step[4], counts, put(boxes, step[2], 1 % step[3] if room else 0), asked, told)
+    if kind == "tell":
+        return (step[2], counts, boxes, asked, deed(boxes, asked))
+    place, counts, boxes = deed(counts, boxes, asked)
+    return (place, counts, boxes, asked, told)
 
 
 def heard(bound, given):
@@ -101,17 +94,15 @@ def heard(bound, given):
     return 1 + given % (bound - 1)
 
 
-def say(here, step, room):
-    said = ((here.room.name, here.worth_of(step[2])),)
-    put(here, step[1], 1 if room else 0)
-    return said if room else ()
+def said_by(here, step, row, room):
+    """What is said by a room of this row at this step."""
+    if step[0] != "say" or not room:
+        return ()
+    deed = step[1]
+    return ((here.room.name, deed(row[2], row[3])),)
 
 
-def put(here, box, number):
-    """A box becomes a number, by the rest of its bound."""
-    here.boxes[box] = number % bound_of(here, box)
-
-
-def bound_of(here, name):
-    bounds = {box[0]: box[1] for box in here.room.boxes}
-    return bounds[name]
+def taken(step, row, told):
+    """The row of a room at an ask behind it, when it has taken what is told."""
+    place, counts, boxes, asked, own = row
+    return (step[5], counts, put(boxes, step[2], told % step[3]), asked, own)

@@ -2,6 +2,7 @@
 
 from anystore.errors import NoProgram, NoRoom
 from anystore.forms import all_steps, is_body, is_expression, is_name, is_test, is_within
+from anystore.places import Plan
 from anystore.terms import holds
 from anystore.writing import program_text
 
@@ -49,6 +50,7 @@ class Program:
             if why != "":
                 raise NoProgram(at, why)
         self.held = rooms
+        self.drawn = ()
 
     def rooms(self):
         return self.held
@@ -63,6 +65,18 @@ class Program:
         """The names of the rooms right beneath the one of this name, in order."""
         above = self.room_of(name)
         return [room.name for room in self.held if room.above == above.name]
+
+    def plans(self):
+        """For each room its plan; made once, when the program is first done, as it never changes."""
+        if len(self.drawn) == 0:
+            self.drawn = tuple([Plan(self.held, at) for at in range(len(self.held))])
+        return self.drawn
+
+    def plan_of(self, name):
+        for plan in self.plans():
+            if plan.room.name == name:
+                return plan
+        raise NoRoom(name)
 
     def __eq__(self, other):
         return isinstance(other, Program) and self.held == other.held

@@ -1,159 +1,145 @@
-"""What words mean, and which things are stands (points 11 and 13)."""
+"""What words mean, and which things are stands (points 11 and 13).
+
+A row is what a stand has of a room: (place, counts, boxes, asked, told); so are the room's own words, put alike.
+"""
 
 from anystore.forms import is_within
-from anystore.places import for_spans, places
-from anystore.terms import holds, worth
-
-
-class Standing:
-    """A room and how it stands; a row is what a stand has of it: (place, counts, boxes, asked, told)."""
-
-    def __init__(self, program, room, row):
-        place, counts, boxes, asked, told = row
-        self.room = room
-        self.steps = places(program, room.name)
-        self.spans = for_spans(room)
-        self.place = place
-        self.counts = list(counts)
-        self.boxes = {box[0]: number for box, number in zip(room.boxes, boxes)}
-        self.asked = asked
-        self.told = told
-        self.took = 0
-
-    def step(self):
-        return self.steps[self.place]
-
-    def kind(self):
-        return self.steps[self.place][0]
-
-    def calls(self):
-        """The name of the room that it stands at an ask or a clear for; "" where it does neither."""
-        if self.kind() == "ask":
-            return self.step()[2]
-        if self.kind() == "clear":
-            return self.step()[1]
-        return ""
-
-    def worth_of(self, expression):
-        return worth(expression, self.boxes, asked=self.asked)
-
-    def has(self, test):
-        return holds(test, self.boxes, asked=self.asked)
-
-    def has_sayings(self):
-        return all([self.has(saying) for saying in self.room.sayings])
-
-    def lacks_saying(self):
-        """Whether it is at home without one of its sayings."""
-        return self.kind() == "home" and not self.has_sayings()
-
-    def counts_fit(self):
-        """Whether each count within its for's body is below its MOST."""
-        inside = [
-            count < most for (most, check, end), count in zip(self.spans, self.counts) if check < self.place < end]
-        return all(inside)
-
-    def row(self):
-        counts = [
-            count if check <= self.place < end else 0
-            for (most, check, end), count in zip(self.spans, self.counts)]
-        boxes = [self.boxes[box[0]] for box in self.room.boxes]
-        asked = 0 if self.kind() == "home" else self.asked
-        told = self.told if self.kind() == "told" else 0
-        return (self.place, tuple(counts), tuple(boxes), asked, told)
-
-
-def standings(program, rows):
-    return [Standing(program, room, row) for room, row in zip(program.rooms(), rows)]
 
 
 def stand_of(program, words):
     """The stand that the words mean, None where they mean none."""
+    plans = program.plans()
+    return stand_told(plans, meant_rows(plans, parted(plans, words)))
+
+
+def parted(plans, words):
+    """The words, room by room."""
     rows = []
     at = 0
-    for room in program.rooms():
-        many = words_many(room)
-        rows.append(meant(program, room, words[at:at + many]))
-        at += many
-    return stand_told(standings(program, rows))
+    for plan in plans:
+        counts = at + 1
+        boxes = counts + len(plan.mosts)
+        end = boxes + len(plan.bounds)
+        asked, told = (0, 0) if plan.at == 0 else words[end:end + 2]
+        rows.append((words[at], tuple(words[counts:boxes]), tuple(words[boxes:end]), asked, told))
+        at = end if plan.at == 0 else end + 2
+    return tuple(rows)
 
 
-def words_many(room):
-    """How many words a room has."""
-    own = 1 + len(for_spans(room)) + len(room.boxes)
-    return own if room.above == "" else own + 2
+def joined_words(rows):
+    """The words of all rooms, as a machine has them."""
+    found = []
+    for at, (place, counts, boxes, asked, told) in enumerate(rows):
+        found.append(place)
+        found.extend(counts)
+        found.extend(boxes)
+        if at > 0:
+            found.extend([asked, told])
+    return tuple(found)
 
 
-def meant(program, room, words):
+def meant_rows(plans, rows):
+    return tuple([meant(plan, row) for plan, row in zip(plans, rows)])
+
+
+def meant(plan, row):
     """What a room's own words mean, each by its rest."""
-    spans = for_spans(room)
-    place = words[0] % len(places(program, room.name))
-    counts = tuple([word % (span[0] + 1) for span, word in zip(spans, words[1:])])
-    boxes = tuple([word % box[1] for box, word in zip(room.boxes, words[1 + len(spans):])])
-    if room.above == "":
-        return (place, counts, boxes, 0, 0)
-    return (place, counts, boxes, words[-2] % room.ask, words[-1] % room.told[0])
+    place, counts, boxes, asked, told = row
+    return (
+        place % len(plan.steps),
+        tuple([word % bound for bound, word in zip(plan.turns, counts)]),
+        tuple([word % bound for bound, word in zip(plan.bounds, boxes)]),
+        asked % plan.most_asked, told % plan.most_told)
 
 
-def stand_told(standing):
+def stand_told(plans, rows):
     """The stand of rooms that stand so, None where that is none (point 13)."""
-    line = called(standing)
-    names = [one.room.name for one in line]
-    for one in standing:
-        if one.kind() == "again" or one.lacks_saying() or not one.counts_fit():
-            return None
-        if one.kind() != "home" and one.room.name not in names:
+    line = called(plans, rows)
+    for plan, row in zip(plans, rows):
+        if not stands_right(plan, row, plan.at in line):
             return None
     for above, beneath in zip(line, line[1:]):
-        if not call_fits(above, beneath):
+        if not call_fits(plans, rows, above, beneath):
             return None
-    return tuple([one.row() for one in standing])
+    return tuple([told_row(plan, row) for plan, row in zip(plans, rows)])
 
 
-def called(standing):
-    """The first room and all that are called, each by the one ahead of it."""
-    by_name = {one.room.name: one for one in standing}
-    line = [standing[0]]
-    while line[-1].calls() != "":
-        line.append(by_name[line[-1].calls()])
+def called(plans, rows):
+    """The numbers of the first room and of all that are called, each by the one ahead of it."""
+    line = [0]
+    step = plans[0].steps[rows[0][0]]
+    while step[0] in ("ask", "clear"):
+        number = step[1]
+        line.append(number)
+        step = plans[number].steps[rows[number][0]]
     return line
 
 
-def call_fits(above, beneath):
+def stands_right(plan, row, is_called):
+    """Whether a room stands as it may, whatever the others do, being called or not."""
+    place = row[0]
+    if place == 0:
+        return plan.has_sayings(row[2])
+    return is_called and plan.steps[place][0] != "again" and counts_fit(plan, row)
+
+
+def counts_fit(plan, row):
+    """Whether each count within its for's body is below its MOST."""
+    place, counts = row[:2]
+    # A check stands around itself, but not within its own body: its count may be the MOST.
+    own = plan.around[place][-1:] if plan.steps[place][0] == "check" else ()
+    return all([counts[number] < plan.mosts[number] for number in plan.around[place] if number not in own])
+
+
+def call_fits(plans, rows, above, beneath):
     """Whether a called room stands where the one that calls it lets it stand."""
-    if above.kind() == "clear":
-        return beneath.kind() in ("told", "home")
-    return beneath.kind() == "home" or beneath.asked == number_asked(above, beneath)
+    row = rows[beneath]
+    if row[0] == 0:
+        return True
+    step = plans[above].steps[rows[above][0]]
+    if step[0] == "clear":
+        return plans[beneath].steps[row[0]][0] == "told"
+    return row[3] == number_asked(step, rows[above])
 
 
-def number_asked(above, beneath):
-    """What a room at an ask for another one asks of it."""
-    return above.worth_of(above.step()[3]) % beneath.room.ask
+def number_asked(step, row):
+    """What a room of this row asks, its step being an ask."""
+    asking = step[4]
+    return asking(row[2], row[3])
 
 
-def is_stand(program, thing):
-    """Whether any thing is a stand of the program."""
-    if not isinstance(thing, tuple) or len(thing) != len(program):
+def told_row(plan, row):
+    """What a stand tells of a room: 0 for counts, asked and told that mean nothing at its place."""
+    place, counts, boxes, asked, told = row
+    around = plan.around[place]
+    kept = tuple([count if number in around else 0 for number, count in enumerate(counts)])
+    if place == 0:
+        return (place, kept, boxes, 0, 0)
+    return (place, kept, boxes, asked, told if plan.steps[place][0] == "told" else 0)
+
+
+def is_stand(plans, thing):
+    """Whether any thing is a stand of the program of these plans."""
+    if not isinstance(thing, tuple) or len(thing) != len(plans):
         return False
-    if not all([row_fits(program, room, row) for room, row in zip(program.rooms(), thing)]):
+    if not all([row_fits(plan, row) for plan, row in zip(plans, thing)]):
         return False
-    return stand_told(standings(program, thing)) == thing
+    return stand_told(plans, thing) == thing
 
 
-def row_fits(program, room, row):
+def row_fits(plan, row):
     """Whether any thing has the form of what a stand has of this room, all numbers below their bounds."""
     if not isinstance(row, tuple) or len(row) != 5:
         return False
     place, counts, boxes, asked, told = row
-    most_asked, most_told = (0, 0) if room.above == "" else (room.ask - 1, room.told[0] - 1)
     return (
-        is_within(place, 0, len(places(program, room.name)) - 1)
-        and are_within(counts, [span[0] for span in for_spans(room)])
-        and are_within(boxes, [box[1] - 1 for box in room.boxes])
-        and is_within(asked, 0, most_asked) and is_within(told, 0, most_told))
+        is_within(place, 0, len(plan.steps) - 1)
+        and are_below(counts, plan.turns) and are_below(boxes, plan.bounds)
+        and is_within(asked, 0, plan.most_asked - 1) and is_within(told, 0, plan.most_told - 1))
 
 
-def are_within(numbers, mosts):
-    if not isinstance(numbers, tuple) or len(numbers) != len(mosts):
+def are_below(numbers, bounds):
+    """Whether any thing is a tuple of numbers, one below each bound."""
+    if not isinstance(numbers, tuple) or len(numbers) != len(bounds):
         return False
-    return all([is_within(number, 0, most) for number, most in zip(numbers, mosts)])
+    return all([is_within(number, 0, bound - 1) for number, bound in zip(numbers, bounds)])

@@ -12,10 +12,14 @@ NAMES = (
 
 
 class Chance:
-    """What makes programs: a source of chance that its seed sets."""
+    """What makes programs: a source of chance that its seed sets, and the bounds from which it takes some."""
 
-    def __init__(self, seed):
+    def __init__(self, seed, *, bounds=(1, 2, 3, 7, 40), asks=(1, 3, 40), tells=(1, 2, 5, 40), mosts=(1, 2, 3, 9)):
         self.source = random.Random(seed)
+        self.bounds = bounds
+        self.asks = asks
+        self.tells = tells
+        self.mosts = mosts
 
     def expression(self, boxes, words, deep):
         leaves = [("box", name) for name in boxes] + [(word,) for word in words]
@@ -40,7 +44,7 @@ class Chance:
 
     def boxes(self, least):
         names = sorted(self.source.sample(NAMES, self.source.randint(least, 4)))
-        bounds = [self.source.choice((1, 2, 3, 7, 40)) for name in names]
+        bounds = [self.source.choice(self.bounds) for name in names]
         return tuple((name, bound, self.source.randrange(bound)) for name, bound in zip(names, bounds))
 
     def body(self, boxes, words, beneath, deep):
@@ -64,7 +68,7 @@ class Chance:
             bodies = [self.body(boxes, words, beneath, deep - 1) for side in "ab"]
             return ("if", self.test(boxes, words, 3), *bodies)
         if kind == "for" and deep > 1:
-            return ("for", term, self.source.choice((1, 2, 3, 9)), self.body(boxes, words, beneath, deep - 1))
+            return ("for", term, self.source.choice(self.mosts), self.body(boxes, words, beneath, deep - 1))
         if kind == "hear":
             return ("hear", box)
         return ("say" if kind == "say" else "set", box, term)
@@ -90,10 +94,10 @@ class Chance:
             if k == 0:
                 rooms.append(Room(name, boxes=boxes, sayings=sayings, body=self.whole_body(own, (), beneath)))
                 continue
-            told = (self.source.choice((1, 2, 5, 40)), self.expression(own, ("asked",), 3))
+            told = (self.source.choice(self.tells), self.expression(own, ("asked",), 3))
             promise = self.source.choice((None, self.test((), ("asked", "told"), 3)))
             rooms.append(Room(
-                name, above=names[aboves[k]], boxes=boxes, sayings=sayings, ask=self.source.choice((1, 3, 40)),
+                name, above=names[aboves[k]], boxes=boxes, sayings=sayings, ask=self.source.choice(self.asks),
                 told=told, promise=promise, body=self.whole_body(own, ("asked",), beneath)))
         return Program(tuple(rooms))
 
@@ -103,3 +107,10 @@ def programs(seeds):
     for seed in seeds:
         chance = Chance(seed)
         yield chance.source, chance.program(1 + seed % 8)
+
+
+def small_programs(seeds, *, most=5):
+    """The same, with bounds so small that the looker goes through most of them; one to so many rooms, in turn."""
+    for seed in seeds:
+        chance = Chance(seed, bounds=(1, 2, 2, 3, 4), asks=(1, 2, 3), tells=(1, 2, 4), mosts=(1, 1, 2, 3))
+        yield chance.source, chance.program(1 + seed % most)
