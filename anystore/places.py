@@ -174,13 +174,13 @@ def ready_step(plan, rooms, found, place):
     if kind == "tell":
         return ("tell", ready_rest(plan, place[2], place[1]), place[3])
     if kind == "hear":
-        return ("hear", None, *box_of(plan, place[1]), place[2])
+        return ("hear", None) + box_of(plan, place[1]) + (place[2],)
     if kind == "say":
-        return ("say", ready_own(plan, place[2]), *box_of(plan, place[1]), place[3])
+        return ("say", ready_own(plan, place[2])) + box_of(plan, place[1]) + (place[3],)
     if kind == "ask":
         other = number_of(rooms, place[2])
         asking = ready_rest(plan, place[3], rooms[other].ask)
-        return ("ask", other, *box_of(plan, place[1]), asking, place[4], place[5], found[place[4]][2])
+        return ("ask", other) + box_of(plan, place[1]) + (asking, place[4], place[5], found[place[4]][2])
     return place
 
 

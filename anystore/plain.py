@@ -31,7 +31,7 @@ class Plain:
         if here.at > 0:
             self.hand_over(self.drawn[line[-2]], here)
         elif self.look(here):
-            self.move(here, (step[1], *row[1:]))
+            self.move(here, put(row, 0, step[1]))
         return ()
 
     def hand_over(self, above, beneath):
@@ -46,7 +46,7 @@ class Plain:
         elif other[0] > 0:
             self.move(beneath, (0, other[1], other[2], 0, 0))
         else:
-            self.move(above, (step[2], *asking[1:]))
+            self.move(above, put(asking, 0, step[2]))
             self.look(beneath)
 
     def look(self, here):

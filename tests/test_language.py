@@ -7,7 +7,7 @@ import pathlib
 import re
 import unittest
 
-from anystore import places, plain, programs, reading, stands, terms, writing
+from anystore import bounds, editions, looker, machines, places, plain, programs, reading, stands, terms, writing
 
 FOLDER = pathlib.Path(__file__).resolve().parent.parent / "anystore"
 FILES = sorted(FOLDER.glob("*.py"))
@@ -164,7 +164,9 @@ class InterfaceTest(unittest.TestCase):
         listed = (
             (terms, ("worth", "holds")), (writing, ("expression_text", "test_text", "program_text")),
             (programs, ("Room", "Program")), (places, ("places",)), (reading, ("read_program",)),
-            (stands, ("stand_of",)), (plain, ("Plain",)))
+            (stands, ("stand_of",)), (plain, ("Plain",)), (machines, ("Machine",)), (editions, ("swapped",)),
+            (bounds, ("beats_home", "beats_right", "measure", "measure_holds", "beats_of")),
+            (looker, ("run_end", "breaks", "stands_many", "looked")))
         for module, names in listed:
             for name in names:
                 self.assertEqual(getattr(module, name).__module__, module.__name__)
@@ -180,7 +182,17 @@ class InterfaceTest(unittest.TestCase):
             (programs.Program.room_of, "(self, name)"), (programs.Program.beneath, "(self, name)"),
             (reading.read_program, "(text)"), (stands.stand_of, "(program, words)"),
             (plain.Plain, "(program, *, stand=None)"), (plain.Plain.beat, "(self, given=None, *, room=True)"),
-            (plain.Plain.stand, "(self)"), (plain.Plain.now, "(self)"), (plain.Plain.refills, "(self)"))
+            (plain.Plain.stand, "(self)"), (plain.Plain.now, "(self)"), (plain.Plain.refills, "(self)"),
+            (machines.Machine, "(program)"), (machines.Machine.beat, "(self, given=None, *, room=True)"),
+            (machines.Machine.stand, "(self)"), (machines.Machine.now, "(self)"), (machines.Machine.refills, "(self)"),
+            (machines.Machine.words, "(self)"), (machines.Machine.names, "(self)"),
+            (machines.Machine.program, "(self)"), (machines.Machine.spoil, "(self, at, word)"),
+            (machines.Machine.swap, "(self, room)"), (machines.Machine.trial, "(self, deed)"),
+            (editions.swapped, "(program, room)"), (bounds.beats_home, "(program, name)"),
+            (bounds.beats_right, "(program, name)"), (bounds.measure, "(program, name)"),
+            (bounds.measure_holds, "(program, name, thing)"), (bounds.beats_of, "(program)"),
+            (looker.run_end, "(program, name, run)"), (looker.breaks, "(program, name, thing)"),
+            (looker.stands_many, "(program, name)"), (looker.looked, "(program)"))
         for thing, wanted in listed:
             self.assertEqual(str(inspect.signature(thing)), wanted)
 
@@ -191,3 +203,7 @@ class InterfaceTest(unittest.TestCase):
             self.assertIn(name, vars(programs.Room))
         for name in ("beat", "stand", "now", "refills"):
             self.assertIn(name, vars(plain.Plain))
+        for name in (
+                "beat", "stand", "now", "refills", "words", "names", "program", "spoil", "swap", "trial", "__eq__",
+                "__len__", "__repr__"):
+            self.assertIn(name, vars(machines.Machine))
