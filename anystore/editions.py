@@ -21,18 +21,13 @@ def swapped(program, room):
 
 def unlike(elder, room):
     """The first word in which a room is unlike its elder edition, "" where it is alike in all but its text."""
-    if not alike(elder.above, room.above):
-        return "above"
-    if not alike(elder.boxes, room.boxes):
-        return "boxes"
-    if not alike(elder.sayings, room.sayings):
-        return "sayings"
-    if not alike(elder.ask, room.ask):
-        return "ask"
-    if not has_bound_of(elder.told, room.told):
-        return "told"
-    if not alike(elder.promise, room.promise):
-        return "promise"
+    looks = (
+        ("above", alike(elder.above, room.above)), ("boxes", alike(elder.boxes, room.boxes)),
+        ("sayings", alike(elder.sayings, room.sayings)), ("ask", alike(elder.ask, room.ask)),
+        ("told", has_bound_of(elder.told, room.told)), ("promise", alike(elder.promise, room.promise)))
+    for why, is_alike in looks:
+        if not is_alike:
+            return why
     return ""
 
 

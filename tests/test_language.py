@@ -7,7 +7,9 @@ import pathlib
 import re
 import unittest
 
-from anystore import bounds, editions, looker, machines, places, plain, programs, reading, stands, terms, writing
+from anystore import (
+    bounds, closed, desk, editions, errors, looker, machines, places, plain, programs, reading, stands, terms, ways,
+    writing, yard)
 
 FOLDER = pathlib.Path(__file__).resolve().parent.parent / "anystore"
 FILES = sorted(FOLDER.glob("*.py"))
@@ -22,6 +24,10 @@ TypedDict TYPE_CHECKING abstractmethod
 """.split()
 BARRED_NAMES = set("register mro elements open input law version_info with_traceback add_note format".split())
 METHODS = {"__init__", "__eq__", "__repr__", "__str__", "__len__"}
+BARRED_WORDS_AS_NAMES = set("""
+attrgetter breakpoint builtins compile copyright credits delattr dir eval exec exit gc getattr globals hasattr help id
+importlib license locals methodcaller os quit setattr super type vars sys
+""".split())
 NEVER = (ast.Global, ast.AsyncFunctionDef, ast.Await, ast.Import, ast.Div)
 
 
@@ -77,7 +83,7 @@ class NamesTest(unittest.TestCase):
         for path in FILES:
             for name in names_bound(tree_of(path)):
                 with self.subTest(path.name, name=name):
-                    self.assertNotIn(name, BARRED_NAMES)
+                    self.assertNotIn(name, BARRED_NAMES | BARRED_WORDS_AS_NAMES)
                     self.assertTrue(not name.startswith("_") or name in METHODS)
 
     def test_no_builtin_has_another_meaning(self):
@@ -113,6 +119,38 @@ class CodeTest(unittest.TestCase):
                         for sign, right in zip(node.ops, node.comparators):
                             if isinstance(sign, (ast.Is, ast.IsNot)):
                                 self.assertIn(getattr(right, "value", 0), (None, True, False))
+
+    def test_lambdas_stand_each_on_a_line_of_its_own(self):
+        for path in FILES:
+            lines = [node.lineno for node in ast.walk(tree_of(path)) if isinstance(node, ast.Lambda)]
+            self.assertEqual(len(lines), len(set(lines)), path.name)
+
+    def test_stars_stand_before_names(self):
+        for path in FILES:
+            for node in ast.walk(tree_of(path)):
+                if isinstance(node, ast.Starred):
+                    self.assertIsInstance(node.value, ast.Name, (path.name, node.lineno))
+
+    def test_what_a_try_holds(self):
+        for path in FILES:
+            for node in ast.walk(tree_of(path)):
+                if isinstance(node, ast.ExceptHandler):
+                    self.assertIsInstance(node.type, ast.Name, path.name)
+                    self.assertIn(node.type.id, ERRORS, path.name)
+                if isinstance(node, ast.Try):
+                    for part in node.finalbody:
+                        self.assertIsInstance(part, ast.Assign, path.name)
+                        for inner in ast.walk(part):
+                            self.assertNotIsInstance(inner, (ast.Call, ast.Subscript, ast.BinOp), path.name)
+
+    def test_returns_of_double_underscore_methods(self):
+        for path in FILES:
+            for node in ast.walk(tree_of(path)):
+                if isinstance(node, ast.FunctionDef) and node.name in ("__len__", "__repr__", "__str__"):
+                    self.assertEqual(len(node.body), 1, path.name)
+                    told = node.body[0].value
+                    name = {"__len__": "len", "__str__": "str"}.get(node.name)
+                    self.assertTrue(isinstance(told, ast.JoinedStr) if name is None else told.func.id == name, path.name)
 
     def test_any_and_all_take_lists(self):
         for path in FILES:
@@ -159,51 +197,72 @@ class CodeTest(unittest.TestCase):
                 del needs[name]
 
 
+# What the interface lists: by the modules each function's arguments, and each class's with those of its methods.
+TERM = "(expression, boxes, *, asked=0, told=0)"
+NAMED = "(program, name)"
+BEAT = "(self, given=None, *, room=True)"
+FUNCTIONS = {
+    terms: {"worth": TERM, "holds": TERM.replace("expression", "test")},
+    writing: {"expression_text": "(expression)", "test_text": "(test)", "program_text": "(program)"},
+    reading: {"read_program": "(text)"}, places: {"places": NAMED}, stands: {"stand_of": "(program, words)"},
+    editions: {"swapped": "(program, room)"},
+    bounds: {
+        "beats_home": NAMED, "beats_right": NAMED, "measure": NAMED, "measure_holds": "(program, name, thing)",
+        "beats_of": "(program)"},
+    looker: {
+        "run_end": "(program, name, run)", "breaks": "(program, name, thing)", "stands_many": NAMED,
+        "looked": "(program)"},
+    closed: {"closure": NAMED, "closes": "(program, name, thing)"},
+    ways: {"marks": "(hold)", "round_beats": "(hold, *, miss=1)", "way_beats": "(hold, *, miss=1)"},
+}
+CLASSES = {
+    programs.Room: {
+        "": "(name, *, above='', boxes=(), sayings=(), ask=None, told=None, promise=None, body=())",
+        "__eq__": "(self, other)", "__len__": "(self)", "__repr__": "(self)"},
+    programs.Program: {
+        "": "(rooms)", "rooms": "(self)", "room_of": "(self, name)", "beneath": "(self, name)",
+        "__eq__": "(self, other)", "__len__": "(self)", "__str__": "(self)", "__repr__": "(self)"},
+    plain.Plain: {
+        "": "(program, *, stand=None)", "beat": BEAT, "stand": "(self)", "now": "(self)", "refills": "(self)"},
+    machines.Machine: {
+        "": "(program)", "beat": BEAT, "stand": "(self)", "now": "(self)", "refills": "(self)", "words": "(self)",
+        "names": "(self)", "program": "(self)", "spoil": "(self, at, word)", "swap": "(self, room)",
+        "trial": "(self, deed)", "__eq__": "(self, other)", "__len__": "(self)", "__repr__": "(self)"},
+    ways.Way: {
+        "": "(hold, *, miss=1, bound=10)", "beat": "(self, *, word=None, taking=False, lost=(False, False))",
+        "store": "(self)", "spoil": "(self, store)", "is_plain": "(self)", "under_way": "(self)",
+        "__eq__": "(self, other)", "__len__": "(self)", "__repr__": "(self)"},
+    yard.Yard: {
+        "": "(machines, ways=())", "beat": "(self, *, lost=())", "right_in": "(self)", "is_right": "(self)",
+        "__len__": "(self)"},
+    desk.Desk: {"": "()", "say": "(self, row)", "__len__": "(self)"},
+}
+ERRORS = {
+    "NoText": ValueError, "NoProgram": ValueError, "NoRoom": LookupError, "NoStand": ValueError, "NoWord": IndexError,
+    "NoEdition": ValueError, "NotLet": RuntimeError, "NoRun": ValueError, "TooMany": OverflowError,
+    "NoWay": ValueError, "NoNumber": ValueError, "TooLost": RuntimeError, "NoStore": ValueError, "NoYard": ValueError,
+    "NoRow": ValueError, "NoName": KeyError}
+HOMES = {
+    programs.Room: programs, programs.Program: programs, plain.Plain: plain, machines.Machine: machines,
+    ways.Way: ways, yard.Yard: yard, desk.Desk: desk}
+
+
 class InterfaceTest(unittest.TestCase):
-    def test_defined_where_it_is_listed(self):
-        listed = (
-            (terms, ("worth", "holds")), (writing, ("expression_text", "test_text", "program_text")),
-            (programs, ("Room", "Program")), (places, ("places",)), (reading, ("read_program",)),
-            (stands, ("stand_of",)), (plain, ("Plain",)), (machines, ("Machine",)), (editions, ("swapped",)),
-            (bounds, ("beats_home", "beats_right", "measure", "measure_holds", "beats_of")),
-            (looker, ("run_end", "breaks", "stands_many", "looked")))
-        for module, names in listed:
-            for name in names:
-                self.assertEqual(getattr(module, name).__module__, module.__name__)
+    def test_functions(self):
+        for module, listed in FUNCTIONS.items():
+            for name, arguments in listed.items():
+                found = getattr(module, name)
+                self.assertEqual(found.__module__, module.__name__)
+                self.assertEqual(str(inspect.signature(found)), arguments, name)
 
-    def test_arguments(self):
-        term = "(expression, boxes, *, asked=0, told=0)"
-        room = "(name, *, above='', boxes=(), sayings=(), ask=None, told=None, promise=None, body=())"
-        listed = (
-            (terms.worth, term), (terms.holds, term.replace("expression", "test")),
-            (writing.expression_text, "(expression)"), (writing.test_text, "(test)"),
-            (writing.program_text, "(program)"), (places.places, "(program, name)"), (programs.Room, room),
-            (programs.Program, "(rooms)"), (programs.Program.rooms, "(self)"),
-            (programs.Program.room_of, "(self, name)"), (programs.Program.beneath, "(self, name)"),
-            (reading.read_program, "(text)"), (stands.stand_of, "(program, words)"),
-            (plain.Plain, "(program, *, stand=None)"), (plain.Plain.beat, "(self, given=None, *, room=True)"),
-            (plain.Plain.stand, "(self)"), (plain.Plain.now, "(self)"), (plain.Plain.refills, "(self)"),
-            (machines.Machine, "(program)"), (machines.Machine.beat, "(self, given=None, *, room=True)"),
-            (machines.Machine.stand, "(self)"), (machines.Machine.now, "(self)"), (machines.Machine.refills, "(self)"),
-            (machines.Machine.words, "(self)"), (machines.Machine.names, "(self)"),
-            (machines.Machine.program, "(self)"), (machines.Machine.spoil, "(self, at, word)"),
-            (machines.Machine.swap, "(self, room)"), (machines.Machine.trial, "(self, deed)"),
-            (editions.swapped, "(program, room)"), (bounds.beats_home, "(program, name)"),
-            (bounds.beats_right, "(program, name)"), (bounds.measure, "(program, name)"),
-            (bounds.measure_holds, "(program, name, thing)"), (bounds.beats_of, "(program)"),
-            (looker.run_end, "(program, name, run)"), (looker.breaks, "(program, name, thing)"),
-            (looker.stands_many, "(program, name)"), (looker.looked, "(program)"))
-        for thing, wanted in listed:
-            self.assertEqual(str(inspect.signature(thing)), wanted)
+    def test_classes(self):
+        for found, listed in CLASSES.items():
+            self.assertEqual(found.__module__, HOMES[found].__name__)
+            for name, arguments in listed.items():
+                thing = found if name == "" else vars(found)[name]
+                self.assertEqual(str(inspect.signature(thing)), arguments, (found, name))
 
-    def test_methods_are_the_class_own(self):
-        for name in ("rooms", "room_of", "beneath", "__eq__", "__len__", "__str__", "__repr__"):
-            self.assertIn(name, vars(programs.Program))
-        for name in ("__eq__", "__len__", "__repr__"):
-            self.assertIn(name, vars(programs.Room))
-        for name in ("beat", "stand", "now", "refills"):
-            self.assertIn(name, vars(plain.Plain))
-        for name in (
-                "beat", "stand", "now", "refills", "words", "names", "program", "spoil", "swap", "trial", "__eq__",
-                "__len__", "__repr__"):
-            self.assertIn(name, vars(machines.Machine))
+    def test_errors(self):
+        for name, above in ERRORS.items():
+            self.assertEqual(getattr(errors, name).__bases__, (above,))
+            self.assertEqual(getattr(errors, name).__module__, errors.__name__)

@@ -1,20 +1,23 @@
-"""Point 3: what is promised of the whole, of machines, their programs, bounds and editions."""
+"""Point 3: what is promised of the whole: of machines, their programs and bounds, editions, ways and yards."""
 
 import unittest
 
 from anystore.bounds import beats_home, beats_of, beats_right
 from anystore.editions import swapped
-from anystore.errors import NoEdition, NotLet, TooMany
+from anystore.errors import NoEdition, NotLet, TooLost, TooMany
 from anystore.machines import Machine
+from anystore.places import places
 from anystore.plain import Plain
 from anystore.programs import Room
 from anystore.reading import read_program
 from anystore.stands import stand_of
 from anystore.terms import holds
-from anystore.places import places
+from anystore.ways import Way
+from anystore.yard import Yard
 from tests.chance import Chance, programs, small_programs
 from tests.letby import let_programs
-from tests.samples import house
+from tests.samples import HEAR, X, alone, house
+from tests.test_ways import any_store
 
 MANY = 999999
 MOST_BEATS = 1500
@@ -181,7 +184,7 @@ class LetTest(unittest.TestCase):
                         self.assertTrue(is_right(one, *found[one.name]))
 
     def test_rooms_that_are_left_alone(self):
-        alone = 0
+        told = 0
         for source, program in let_programs(range(200)):
             if len(program) == 1:
                 continue
@@ -200,10 +203,10 @@ class LetTest(unittest.TestCase):
                 found = meant(machine)
                 for name in left:
                     self.assertTrue(is_right(program.room_of(name), *found[name]))
-                    alone += found[name][0] == "told"
+                    told += found[name][0] == "told"
             took = dict(zip([room.name for room in program.rooms()], machine.refills()))
             self.assertEqual([took[name] for name in left], [0] * len(left))
-        self.assertGreater(alone, 500)
+        self.assertGreater(told, 500)
 
 
 class EditionsTest(unittest.TestCase):
@@ -274,6 +277,76 @@ class EditionsTest(unittest.TestCase):
                 machine.beat(*outside(source)[:1])
             self.assertEqual(machine.refills(), ahead)
         self.assertGreater(many, 100)
+
+
+class YardsTest(unittest.TestCase):
+    """Machines, editions, ways and yards together."""
+
+    def lossy(self, source, yard, many):
+        lost = {at: (source.random() < 0.5, source.random() < 0.5) for at in range(many) if source.random() < 0.9}
+        try:
+            return yard.beat(lost=lost)
+        except TooLost:
+            return yard.beat()
+
+    def test_spoilt_swapped_and_lost(self):
+        drawn = [program for source, program in let_programs(range(80)) if beats_of(program) < 300]
+        drawn += [alone((HEAR, ("say", "x", X), HEAR, ("say", "x", X)))] * len(drawn)
+        source = Chance(25).source
+        put_in, carried = 0, 0
+        for turn in range(60):
+            machines = {name: Machine(source.choice(drawn)) for name in ("a", "b", "c")}
+            ways = [
+                (name, goal, Way(source.randint(1, 3), miss=source.randint(1, 3), bound=7))
+                for name, goal in (("a", "b"), ("b", "c"), ("c", "a"))]
+            yard = Yard(machines, ways)
+            for round_of_it in range(3):
+                for machine in machines.values():
+                    if source.random() < 0.25:
+                        put_in += self.swap(source, turn, machine)
+                    spoil_all(source, machine)
+                for name, goal, way in ways:
+                    way.spoil(any_store(source, way.hold, 7))
+                for beat in range(source.randrange(8)):
+                    self.lossy(source, yard, 3)
+            for beat in range(yard.right_in()):
+                self.lossy(source, yard, 3)
+            carried += self.goes_on_plainly(source, yard, machines, ways)
+        self.assertGreater(put_in, 50)
+        self.assertGreater(carried, 80)
+
+    def swap(self, source, seed, machine):
+        name = source.choice(machine.program().rooms()).name
+        room = EditionsTest.edition(self, source, seed, machine.program(), name)
+        if room is not None:
+            machine.swap(room)
+        return room is not None
+
+    def goes_on_plainly(self, source, yard, machines, ways):
+        """For each machine a plain reading that is given the same says the same; told is how many words were carried."""
+        took = [machine.refills() for machine in machines.values()]
+        plains = {name: Plain(machine.program(), stand=machine.stand()) for name, machine in machines.items()}
+        wanted = [way.under_way() for name, goal, way in ways]
+        many = 0
+        for beat in range(40):
+            self.assertTrue(yard.is_right())
+            stores = [way.store() for name, goal, way in ways]
+            said = self.lossy(source, yard, 3)
+            for at, (name, goal, way) in enumerate(ways):
+                into = [store for (start, to, other), store in zip(ways, stores) if to == name][0]
+                told = plains[name].beat(into[6], room=stores[at][2] is None)
+                self.assertEqual([one[1:] for one in said if one[0] == name], list(told))
+                self.assertEqual(machines[name].stand(), plains[name].stand())
+                wanted[at] += [number % 7 for room, number in told[:1]]
+                # What has left the box was the first that was under way.
+                left = len(wanted[at]) - len(way.under_way())
+                self.assertIn(left, (0, 1))
+                if left == 1:
+                    self.assertEqual(stores[at][6], wanted[at].pop(0))
+                    many += 1
+                self.assertEqual(way.under_way(), wanted[at])
+        self.assertEqual([machine.refills() for machine in machines.values()], took)
+        return many
 
 
 class WrittenTest(unittest.TestCase):
