@@ -277,6 +277,17 @@ class LookedTest(unittest.TestCase):
                 looked(program)
             self.assertEqual((caught.exception.room, caught.exception.many), (room, many))
 
+    def test_5001(self):
+        # Of fors at the most within one another: ones, tens, hundreds and thousands.
+        for tens, many in ((8, 5001), (7, 4991)):
+            inner = ("for", X, 9, (("for", X, 9, (SET,) * 3), *[SET] * 7))
+            program = alone((("for", X, 9, (inner, *[SET] * tens)),), boxes=(("x", 1, 0),))
+            self.assertEqual(stands_many(program, "main"), many)
+            if many > 5000:
+                self.refused(program, "main", many)
+            else:
+                self.assertIsNone(looked(program))
+
     def test_many_counts(self):
         body = (("for", X, 9, (("for", X, 9, (SET,) * 12), SET)), SET)
         program = Program((first((), boxes=()), Room("sub", above="main", boxes=(("x", 3, 0),), ask=1, told=(1, ZERO), body=body)))
